@@ -1,0 +1,1 @@
+"""Foreverrows: rows of signs without end, and when two worlds flow alike."""
