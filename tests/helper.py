@@ -86,3 +86,22 @@ def grid_by_chance(lot, many, wide, most):
 
 
 SHAPES = [(many, wide) for many in range(1, 9) for wide in range(1, 9)]
+
+
+def table_by_chance(lot):
+    """A table of one to six places, some with few arrows, some with many."""
+    many = lot.randint(1, 6)
+    table = [[0] * many for row in range(many)]
+    for arrow in range(lot.choice([many, many + 2, 2 * many, 40])):
+        table[lot.randrange(many)][lot.randrange(many)] += 1
+    return table
+
+
+def steps_needed(table, i, j):
+    """How many arrows, one at least, lead from i to j, or None: by the places reached in so many steps."""
+    reached = {i}
+    for steps in range(1, len(table) + 1):
+        reached = {end for place in reached for end in range(len(table)) if table[place][end] > 0}
+        if j in reached:
+            return steps
+    return None
