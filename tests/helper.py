@@ -105,3 +105,66 @@ def steps_needed(table, i, j):
         if j in reached:
             return steps
     return None
+
+
+def reader_by_chance(lot, marks, single):
+    """A reader of one to six places; a single one reads one way."""
+    many = lot.randint(1, 6)
+    signs = "abcd"[:marks]
+    if single:
+        begun = [(place, mark) for place in range(many) for mark in signs]
+        begun = lot.sample(begun, lot.randint(0, len(begun)))
+        return (many, sorted([(place, mark, lot.randrange(many)) for place, mark in begun]))
+    every = [(i, mark, j) for i in range(many) for mark in signs for j in range(many)]
+    arrows = lot.sample(every, min(len(every), lot.choice([many, many + 2, 2 * many, 3 * many, 30])))
+    return (many, sorted(arrows))
+
+
+def whole_readers(seed, many):
+    """Readers that hang together, every other one reading one way."""
+    lot = chance(seed)
+    made = []
+    while len(made) < many:
+        reader = reader_by_chance(lot, lot.randint(1, 4), len(made) % 2 == 0)
+        table = [[0] * reader[0] for row in range(reader[0])]
+        for start, mark, end in reader[1]:
+            table[start][end] += 1
+        places = range(reader[0])
+        if all([steps_needed(table, i, j) is not None for i in places for j in places]):
+            made.append(reader)
+    return made
+
+
+def marked_ends(reader, places, mark):
+    """The places to which the mark leads from one of the places."""
+    return frozenset([end for start, sign, end in reader[1] if sign == mark and start in places])
+
+
+def ends_of_word(reader, places, word):
+    for mark in word:
+        places = marked_ends(reader, places, mark)
+    return places
+
+
+def parting_of_sets(one, places, other, beside):
+    """The first word of the shortest that is read from just one of two sets of places, and which; or None.
+
+    All words of one length are gone through before any longer one, those that lead to sets met already left out.
+    """
+    level = {(frozenset(places), frozenset(beside)): ""}
+    met = set(level)
+    while level:
+        found = []
+        longer = {}
+        for (left, right), word in level.items():
+            for mark in "abcd":
+                pair = (marked_ends(one, left, mark), marked_ends(other, right, mark))
+                if bool(pair[0]) != bool(pair[1]):
+                    found.append((word + mark, 0 if pair[0] else 1))
+                elif pair[0] and pair not in met:
+                    longer[pair] = min(longer.get(pair, word + mark), word + mark)
+        if found:
+            return min(found)
+        met.update(longer)
+        level = longer
+    return None
