@@ -13,6 +13,14 @@ def common_number(one, other):
     return abs(one)
 
 
+def in_least_numbers(numbers):
+    """The numbers divided by the greatest one that divides all; their signs stay."""
+    common = 0
+    for number in numbers:
+        common = common_number(common, number)
+    return [number // common for number in numbers]
+
+
 def common_shares(one, other):
     """A tuple (common, s, t): the common number, which is s times one and t times other.
 

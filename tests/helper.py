@@ -168,3 +168,101 @@ def parting_of_sets(one, places, other, beside):
         met.update(longer)
         level = longer
     return None
+
+
+def arrows_in(table):
+    return [(i, j, k) for i, row in enumerate(table) for j, entry in enumerate(row) for k in range(entry)]
+
+
+def small_table_by_chance(lot):
+    """A table of one to four places with few arrows, so that its rows can be gone through."""
+    many = lot.randint(1, 4)
+    return [[lot.choice([0, 0, 1, 1, 2, 3]) for entry in range(many)] for row in range(many)]
+
+
+def pieces_by_chance(lot, arrows):
+    """Two or more pieces of the arrows, in any order; None where there are too few arrows."""
+    if len(arrows) < 2:
+        return None
+    arrows = lot.sample(arrows, len(arrows))
+    cuts = sorted(lot.sample(range(1, len(arrows)), lot.randint(1, min(3, len(arrows) - 1))))
+    return [arrows[low:high] for low, high in zip([0] + cuts, cuts + [len(arrows)])]
+
+
+def splittings_by_chance(lot, table):
+    """Some moves out and in that can be done."""
+    made = []
+    for word, at in (("out", 0), ("in", 1)):
+        for p in range(len(table)):
+            pieces = pieces_by_chance(lot, [arrow for arrow in arrows_in(table) if arrow[at] == p])
+            if pieces is not None:
+                made.append((word, p, pieces))
+    return made
+
+
+def base_of(move, many, place):
+    """The place of which a place is a piece, of many places in all ahead of the splitting."""
+    return move[1] if place >= many else place
+
+
+def piece_of(move, many, place):
+    """The arrows of the piece that a place is, or None."""
+    if place == move[1]:
+        return move[2][0]
+    return move[2][place - many + 1] if place >= many else None
+
+
+def splitting_related(table, move):
+    """All arrows of the new table, each with the one arrow for which it stands, by the words of [33]."""
+    many = len(table)
+    places = range(many + len(move[2]) - 1)
+    related = {}
+    for i in places:
+        for j in places:
+            own = piece_of(move, many, i if move[0] == "out" else j)
+            bases = (base_of(move, many, i), base_of(move, many, j))
+            held = [arrow for arrow in arrows_in(table) if arrow[:2] == bases and (own is None or arrow in own)]
+            related.update({(i, j, k): [arrow] for k, arrow in enumerate(held)})
+    return related
+
+
+def joining_related(table, move):
+    """All arrows of the new table, each with those that become it, by the words of [34]."""
+    word, p, m = move
+    own, other = (0, 1) if word == "join out" else (1, 0)
+    joined = [p] + list(range(len(table) - m, len(table)))
+    counted = {}
+    related = {}
+    for place in joined + [place for place in range(len(table)) if place not in joined]:
+        ahead = dict(counted)
+        for arrow in [arrow for arrow in arrows_in(table) if arrow[own] == place]:
+            ends = [p if end in joined else end for end in arrow[:2]]
+            # Those to (or from) the last places become what the like ones to (from) p become.
+            number = arrow[2] + ahead.get(tuple(ends), 0)
+            if arrow[other] == ends[other]:
+                counted[tuple(ends)] = counted.get(tuple(ends), 0) + 1
+            related.setdefault((ends[0], ends[1], number), []).append(arrow)
+    return related
+
+
+def swap_related(table, move):
+    exchanged = {move[1]: move[2], move[2]: move[1]}
+    return {(exchanged.get(i, i), exchanged.get(j, j), k): [(i, j, k)] for i, j, k in arrows_in(table)}
+
+
+def split_related(table, move):
+    """All arrows of the new table, each with a list of those of the old one that it may be led to or from."""
+    if move[0] == "swap":
+        return swap_related(table, move)
+    if move[0] in ("out", "in"):
+        return splitting_related(table, move)
+    return joining_related(table, move)
+
+
+def table_of_arrows(arrows):
+    """The table that has these arrows, which are numbered without gaps."""
+    many = max([max(arrow[:2]) for arrow in arrows], default=0) + 1
+    table = [[0] * many for row in range(many)]
+    for i, j, k in arrows:
+        table[i][j] = max(table[i][j], k + 1)
+    return table

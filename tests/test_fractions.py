@@ -12,9 +12,10 @@ from foreverrows.fractions import (
     fraction_order,
     fraction_sum,
     fraction_times,
+    in_least_numbers,
     is_whole,
 )
-from tests.helper import chance
+from tests.helper import chance, check_own
 
 GREAT = 10 ** 100 - 1
 NUMBERS = [0, 1, -1, 2, -2, 6, -9, 12, 35, -100, 10 ** 30, -(10 ** 30) + 7, GREAT, -GREAT]
@@ -62,6 +63,13 @@ class FractionsTest(unittest.TestCase):
         for top, bottom in self.pairs():
             if bottom != 0:
                 self.assertEqual(told(pythons.Fraction(top, bottom)), fraction(top, bottom))
+
+    def test_least_numbers(self):
+        self.assertEqual([2, -3, 0], in_least_numbers([12, -18, 0]))
+        self.assertEqual([-1], in_least_numbers([-GREAT]))
+        self.assertEqual([1, GREAT], in_least_numbers([GREAT, GREAT * GREAT]))
+        self.assertEqual([], in_least_numbers([]))
+        self.assertEqual([6, 10, 15], check_own(self, in_least_numbers, [6, 10, 15]))
 
     def test_order_of_near_ones(self):
         self.assertEqual(1, fraction_order((1, 2), (1, 3)))
