@@ -1,10 +1,9 @@
 """The growth of tables, held between fractions, and two growths side by side."""
 
 from foreverrows.corners import cofactor
-from foreverrows.errors import NoWhole
 from foreverrows.fractions import fraction, fraction_less, fraction_order, fraction_sum, fraction_times
 from foreverrows.fractions import in_least_numbers
-from foreverrows.nets import hangs_together
+from foreverrows.nets import require_whole
 from foreverrows.polynomials import common_part, roots_between, value_at, wide_polynomial
 
 HALF = (1, 2)
@@ -25,12 +24,6 @@ def growth_held(table, figures):
         weights = weights_at(table, above)
         low, high = held_by(table, weights)
     return (low, high, weights)
-
-
-def require_whole(table):
-    """Refuse a table that does not hang together."""
-    if not hangs_together(table):
-        raise NoWhole("the table does not hang together")
 
 
 def first_hold(table):

@@ -24,6 +24,12 @@ def hangs_together(table):
     return all_meet_all(nexts_of(table))
 
 
+def require_whole(table):
+    """Refuse a table that does not hang together."""
+    if not hangs_together(table):
+        raise NoWhole("the table does not hang together")
+
+
 def is_ring(table):
     """Whether the table hangs together and from each place just one arrow leads."""
     return hangs_together(table) and all([sum(row) == 1 for row in table])
@@ -31,8 +37,7 @@ def is_ring(table):
 
 def beat_of(table):
     """A tuple (beat, numbers) of a table that hangs together."""
-    if not hangs_together(table):
-        raise NoWhole("the table does not hang together")
+    require_whole(table)
     nexts = nexts_of(table)
     steps = steps_from_first(nexts)
     beat = 0

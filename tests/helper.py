@@ -1,6 +1,8 @@
 """What the tests of all modules need."""
 
 import copy
+import itertools
+import math
 import random
 
 
@@ -86,6 +88,32 @@ def grid_by_chance(lot, many, wide, most):
 
 
 SHAPES = [(many, wide) for many in range(1, 9) for wide in range(1, 9)]
+
+
+def by_orders(grid):
+    """The determinant through all orders of the columns."""
+    whole = 0
+    for order in itertools.permutations(range(len(grid))):
+        turns = sum([order[i] > order[j] for j in range(len(order)) for i in range(j)])
+        part = (-1) ** turns
+        for row, column in enumerate(order):
+            part *= grid[row][column]
+        whole += part
+    return whole
+
+
+def by_minors(grid):
+    """The corners, each the common number of the minors of so many rows, over that of one fewer."""
+    told = []
+    ahead = 1
+    for many in range(1, min(len(grid), len(grid[0])) + 1):
+        common = 0
+        for rows in itertools.combinations(range(len(grid)), many):
+            for columns in itertools.combinations(range(len(grid[0])), many):
+                common = math.gcd(common, by_orders([[grid[i][j] for j in columns] for i in rows]))
+        told.append(common // ahead if common else 0)
+        ahead = common if common else 1
+    return told
 
 
 def table_by_chance(lot):
@@ -266,3 +294,77 @@ def table_of_arrows(arrows):
     for i, j, k in arrows:
         table[i][j] = max(table[i][j], k + 1)
     return table
+
+
+def hangs_by_steps(table):
+    """Whether a walk leads from each place to each, also to itself."""
+    places = range(len(table))
+    return all([steps_needed(table, i, j) is not None for i in places for j in places])
+
+
+def flowing_tables(seed, many):
+    """Tables of one to four places and at most sixteen arrows that hang together and are no rings.
+
+    Every third one has just one arrow more than a ring.
+    """
+    lot = chance(seed)
+    made = []
+    while len(made) < many:
+        places = lot.randint(1, 4)
+        table = [[0] * places for row in range(places)]
+        arrows = lot.randint(places + 1, 16)
+        if len(made) % 3 == 0:
+            order = lot.sample(range(places), places)
+            for one, other in zip(order, order[1:] + order[:1]):
+                table[one][other] += 1
+            arrows = 1
+        for arrow in range(arrows):
+            table[lot.randrange(places)][lot.randrange(places)] += 1
+        if hangs_by_steps(table):
+            made.append(table)
+    return made
+
+
+def is_full(table):
+    places = range(len(table))
+    return all([table[i][j] >= (2 if i == j else 1) for i in places for j in places])
+
+
+def added_by_arrows(table, word, i, j):
+    """The table behind a single addition, by its arrows and the words of [41]; None where it can't be done."""
+    arrows = [arrow[:2] for arrow in arrows_in(table)]
+    gone = (i, j) if word == "row" else (j, i)
+    if i == j or gone not in arrows:
+        return None
+    arrows.remove(gone)
+    to_j = [arrow for arrow in arrows if arrow[1] == j]
+    from_j = [arrow for arrow in arrows if arrow[0] == j]
+    if not to_j or not from_j:
+        return None
+    if word == "row":
+        arrows += [(i, end) for start, end in from_j]
+    else:
+        arrows += [(start, i) for start, end in to_j]
+    return [[arrows.count((one, other)) for other in range(len(table))] for one in range(len(table))]
+
+
+def additions_by_chance(lot, table):
+    """Some single additions that can be done."""
+    every = [(word, i, j) for word in ("row", "column") for i in range(len(table)) for j in range(len(table))]
+    fit = [thing for thing in every if added_by_arrows(table, *thing) is not None]
+    return [(*thing, 1) for thing in lot.sample(fit, min(3, len(fit)))]
+
+
+def draws_by_chance(lot, table):
+    """Some draws and lays that can be done."""
+    made = []
+    for p, row in enumerate(table):
+        if len(table) > 1 and row[p] == 0 and any(row) and any([other[p] for other in table]):
+            made.append(("draw", p))
+    for time in range(8):
+        ins = [lot.choice([0, 0, 1, 2]) for row in table]
+        outs = [lot.choice([0, 0, 1, 2]) for row in table]
+        fits = all([entry >= x * y for row, x in zip(table, ins) for entry, y in zip(row, outs)])
+        if any(ins) and any(outs) and fits:
+            made.append(("lay", lot.randint(0, len(table)), ins, outs))
+    return made

@@ -7,35 +7,9 @@ import unittest
 from foreverrows.corners import corner_form, determinant, turned_back
 from foreverrows.errors import NoBack, NoGrid
 from foreverrows.grids import multiplied, plain_grid, stepped
-from tests.helper import SHAPES, chance, check_own, check_refused, grid_by_chance
+from tests.helper import SHAPES, by_minors, by_orders, chance, check_own, check_refused, grid_by_chance
 
 GREAT = 10 ** 100 - 1
-
-
-def by_orders(grid):
-    """The determinant through all orders of the columns."""
-    whole = 0
-    for order in itertools.permutations(range(len(grid))):
-        turns = sum([order[i] > order[j] for j in range(len(order)) for i in range(j)])
-        part = (-1) ** turns
-        for row, column in enumerate(order):
-            part *= grid[row][column]
-        whole += part
-    return whole
-
-
-def by_minors(grid):
-    """The corners, each the common number of the minors of so many rows, over that of one fewer."""
-    told = []
-    ahead = 1
-    for many in range(1, min(len(grid), len(grid[0])) + 1):
-        common = 0
-        for rows in itertools.combinations(range(len(grid)), many):
-            for columns in itertools.combinations(range(len(grid[0])), many):
-                common = math.gcd(common, by_orders([[grid[i][j] for j in columns] for i in rows]))
-        told.append(common // ahead if common else 0)
-        ahead = common if common else 1
-    return told
 
 
 def stepped_about(lot, grid, times, most):
