@@ -45,13 +45,14 @@ def filled(table):
     Then the arrow along which a row is added is there again behind it, and no entry becomes less.
     """
     moves = []
+    made = table
     for i in range(len(table)):
-        j = place_to_add(table, i)
+        j = place_to_add(made, i)
         while j is not None:
             moves.append(("row", i, j, 1))
-            table = addition_done(table, moves[-1])
-            j = place_to_add(table, i)
-    return (moves, table)
+            made = addition_done(made, moves[-1])
+            j = place_to_add(made, i)
+    return (moves, made)
 
 
 def place_to_add(table, i):

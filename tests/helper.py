@@ -325,6 +325,18 @@ def flowing_tables(seed, many):
     return made
 
 
+def looping_tables(seed, many):
+    """Such tables in which most arrows lead from a place to itself, so that all signs are met."""
+    lot = chance(seed)
+    made = []
+    while len(made) < many:
+        places = lot.randint(2, 4)
+        table = [[lot.randint(1, 4) if i == j else lot.choice([0, 0, 1]) for j in range(places)] for i in range(places)]
+        if sum([sum(row) for row in table]) <= 16 and hangs_by_steps(table):
+            made.append(table)
+    return made
+
+
 def is_full(table):
     places = range(len(table))
     return all([table[i][j] >= (2 if i == j else 1) for i in places for j in places])
@@ -368,3 +380,34 @@ def draws_by_chance(lot, table):
         if any(ins) and any(outs) and fits:
             made.append(("lay", lot.randint(0, len(table)), ins, outs))
     return made
+
+
+def joinings_in(table):
+    """All joinings that can be done, by the words of [34]."""
+    made = []
+    many = len(table)
+    for word, rows in (("join out", table), ("join in", [list(column) for column in zip(*table)])):
+        for p in range(many):
+            for m in range(1, many - p):
+                joined = [p] + list(range(many - m, many))
+                same = all([row[place] == row[p] for row in rows for place in joined])
+                if same and all([any(rows[place]) for place in joined]):
+                    made.append((word, p, m))
+    return made
+
+
+def moves_by_chance(lot, table):
+    """Some moves of all nine words, so far as they can be done."""
+    made = splittings_by_chance(lot, table) + joinings_in(table) + draws_by_chance(lot, table)
+    made += additions_by_chance(lot, table)
+    # The ways back of additions.
+    for word, i, j, q in additions_by_chance(lot, table):
+        row = table if word == "row" else [list(column) for column in zip(*table)]
+        if all([x >= y for x, y in zip(row[i], row[j])]) and sum([other[j] for other in row]) > row[j][j]:
+            made.append((word, i, j, -1))
+    if len(table) > 1:
+        made.append(("swap", *lot.sample(range(len(table)), 2)))
+    return made
+
+
+NINE_WORDS = {"swap", "out", "in", "join out", "join in", "draw", "lay", "row", "column"}

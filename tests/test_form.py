@@ -220,6 +220,37 @@ class NamesTest(unittest.TestCase):
                 self.assertIn(node.func.attr, METHODS | own, (name, node.lineno))
 
 
+class ClassesTest(unittest.TestCase):
+
+    def test_methods_alone_stand_in_a_class(self):
+        for name, node in nodes(ast.ClassDef):
+            self.assertEqual(0, node.col_offset, name)
+            self.assertLessEqual(len(node.bases), 1, name)
+            self.assertFalse(node.decorator_list or node.keywords, name)
+            self.assertTrue(ast.get_docstring(node), name)
+            methods = node.body[1:]
+            for part in methods:
+                self.assertIsInstance(part, ast.FunctionDef, name)
+                self.assertEqual("self", part.args.args[0].arg, name)
+            self.assertEqual(len(methods), len({part.name for part in methods}), name)
+
+    def test_values_are_given_through_self_and_are_no_methods(self):
+        methods = {part.name for name, node in nodes(ast.ClassDef) for part in node.body if hasattr(part, "name")}
+        given = set()
+        for name, node in nodes(ast.Attribute):
+            if isinstance(node.ctx, ast.Store):
+                self.assertIsInstance(node.value, ast.Name, (name, node.lineno))
+                self.assertEqual("self", node.value.id, (name, node.lineno))
+                given.add(node.attr)
+        self.assertFalse(given & (methods | METHODS))
+        for path in files():
+            tree = tree_of(path)
+            calls = {id(node.func) for node in ast.walk(tree) if isinstance(node, ast.Call)}
+            for node in ast.walk(tree):
+                if isinstance(node, ast.Attribute) and id(node) not in calls:
+                    self.assertIn(node.attr, given, (path.name, node.lineno))
+
+
 class WalksTest(unittest.TestCase):
 
     def test_walked_on_the_spot(self):
