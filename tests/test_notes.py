@@ -80,6 +80,13 @@ class TableTest(unittest.TestCase):
             for text in ("1 " + wrong, wrong + " 1", "1;" + wrong, wrong + ";1", "1 2;3 " + wrong + " 4"):
                 check_refused(self, NoText, table_read, text)
 
+    def test_every_other_sign(self):
+        for sign in [chr(code) for code in list(range(32)) + list(range(58, 130))] + list("!#$%&'()*+,./"):
+            if sign != ";":
+                for wrong in (sign, "1" + sign, sign + "1", "1" + sign + "1"):
+                    check_refused(self, NoText, table_read, wrong)
+                    check_refused(self, NoText, move_read, "draw " + wrong)
+
     def test_blanks_and_rows(self):
         for wrong in (" ", "  ", " 1", "1 ", "1  2", "1 ;2", "1; 2", "1 ; 2", ";", ";;", "1;", ";1", "1;;2",
         "1 1;1 0;",
